@@ -1,0 +1,1 @@
+"""Fewboxes: formulas reckoned in few boxes, and why fewer deeds will not do."""
