@@ -1,7 +1,15 @@
-"""Trees and texts that several tests use."""
+"""Trees, texts, rows and a plain machine that several tests use."""
 
+import random
 import re
 
+from fewboxes.errors import FewError, NoDeed, NoName, NoText, NotHeld, TooBig, TooFew, Twice
+
+KINDS = [NoName, Twice, TooBig, NoText, TooFew, NoDeed, NotHeld]
+SIDES = ("left", "right", "both")
+SORTS = ("take", "join", "put", "fetch")
+# the greatest whole number that is handed in: sixty figures
+BIG = 10 ** 60 - 1
 ALL_SIGNS = "".join(chr(code) for code in range(ord(" "), ord("~") + 1))
 LETTERS = "abcdefghijklmnopqrstuvwxyz"
 
@@ -60,3 +68,181 @@ def is_formula_text(text):
     for level in range(23):
         left_over = re.sub(r"(?<![a-z])[a-z]{1,8}\(# #\)", "#", left_over)
     return left_over == "#"
+
+
+def mixed(source, many, deep, first=0):
+    """A tree of so many leaves, at most so deep; its shape and its deeds' names come from a source."""
+    if many == 1:
+        return leaf(numbered_name(first))
+    fitting = [size for size in range(1, many) if max(size, many - size) <= 2 ** (deep - 2)]
+    # the ends are as likely as all between them: else deep trees would hardly ever come
+    size = source.choice([fitting[0], source.choice(fitting), fitting[-1]])
+    left = mixed(source, size, deep - 1, first)
+    return knot(source.choice(["f", "g", "aa", "ab"]), left, mixed(source, many - size, deep - 1, first + size))
+
+
+def spined(source, many, deep, first=0):
+    """A drawn tree of so many leaves that is just so deep."""
+    if deep == 1:
+        return leaf(numbered_name(first))
+    most = 2 ** (deep - 2)
+    size = source.choice([size for size in range(1, many - deep + 2) if max(size, many - size) <= most])
+    if source.randrange(2):
+        return knot("f", mixed(source, size, deep - 1, first), spined(source, many - size, deep - 1, first + size))
+    return knot("f", spined(source, many - size, deep - 1, first), mixed(source, size, deep - 1, first + many - size))
+
+
+def big_mixed(number, deep=24):
+    """Drawn trees of 1 to 32 leaves, at most so deep, some just so deep: the same ones each time."""
+    source = random.Random(number)
+    trees = [mixed(source, 1 + at % 32, deep) for at in range(number)]
+    return trees + [spined(source, many, deep) for many in range(deep, 33)]
+
+
+def depth(tree):
+    return 1 if tree[0] == "leaf" else 1 + max(depth(tree[2]), depth(tree[3]))
+
+
+def deeds_of(tree):
+    """The names of a tree's knots, each once."""
+    return [] if tree[0] == "leaf" else sorted({tree[1], *deeds_of(tree[2]), *deeds_of(tree[3])})
+
+
+def leaves_of(tree):
+    """The names of a tree's leaves."""
+    return [tree[1]] if tree[0] == "leaf" else leaves_of(tree[2]) + leaves_of(tree[3])
+
+
+def kinds_within(value):
+    """The classes of a value and of all that lies in it."""
+    found = {type(value)}
+    if isinstance(value, (list, tuple)):
+        for thing in value:
+            found |= kinds_within(thing)
+    return found
+
+
+def assert_refused(case, kind, ask, *given):
+    """The refusal is of this class, and so is taken by FewError and ValueError, but by no other class of refusal."""
+    for wide in (kind, FewError, ValueError):
+        case.assertRaises(wide, ask, *given)
+    try:
+        ask(*given)
+    except FewError as error:
+        for other in KINDS:
+            case.assertEqual(isinstance(error, other), other == kind, (error, other))
+
+
+class PlainMachine:
+    """The machine told another way: the formula is spread into two dicts, and no deed is ever refused."""
+
+    def __init__(self, tree):
+        self.named = {}
+        self.joined = {}
+        self.spread(tree, ())
+        self.all_places = sorted([*self.named.values(), *self.joined.values()])
+
+    def spread(self, tree, place):
+        if tree[0] == "leaf":
+            self.named[tree[1]] = place
+            return
+        self.joined[tree[1], place + (0,), place + (1,)] = place
+        self.spread(tree[2], place + (0,))
+        self.spread(tree[3], place + (1,))
+
+    def after(self, deed, boxes, shelf):
+        boxes, shelf = list(boxes), list(shelf)
+        match deed:
+            case ("take", x, i):
+                boxes[i] = self.named.get(x)
+            case ("join", f, i, j, h):
+                boxes[h] = self.joined.get((f, boxes[i], boxes[j]))
+            case ("put", i, s):
+                shelf[s] = boxes[i]
+            case ("fetch", s, i):
+                boxes[i] = shelf[s]
+        return boxes, shelf
+
+    def moments(self, k, many, row):
+        states = [([None] * k, [None] * many)]
+        for deed in row:
+            states.append(self.after(deed, *states[-1]))
+        return states
+
+    def useful_joins(self, boxes):
+        """A join for each two boxes that hold the sons of a knot, told without the box it goes to."""
+        return [
+            ("join", f, boxes.index(left), boxes.index(right))
+            for f, left, right in self.joined
+            if left in boxes and right in boxes
+        ]
+
+    def missing_brothers(self, boxes):
+        """The names of the leaves that are not held, but whose brother is."""
+        return [
+            x for x, place in self.named.items()
+            if place and place not in boxes and place[:-1] + (1 - place[-1],) in boxes
+        ]
+
+
+def wandering_row(source, tree, k, many, size):
+    """A drawn row that joins where it can; some of its deeds are of no use, and the shelf is used at will."""
+    machine = PlainMachine(tree)
+    names = leaves_of(tree) + ["zzz"]
+    deeds = deeds_of(tree) + ["zzz"]
+    boxes, shelf, row = [None] * k, [None] * many, []
+
+    def some_box():
+        return source.randrange(k)
+
+    def free_box():
+        """One that holds nothing, if there is one."""
+        return source.choice([i for i in range(k) if boxes[i] is None] or range(k))
+
+    while len(row) < size:
+        useful = machine.useful_joins(boxes)
+        choice = source.randrange(10)
+        if useful and choice < 6:
+            join = source.choice(useful)
+            deed = join + (source.choice([join[2], join[3], some_box()]),)
+        elif choice < 7:
+            wanted = machine.missing_brothers(boxes) or names
+            deed = ("take", source.choice([source.choice(names), source.choice(wanted)]), free_box())
+        elif choice < 8 and many:
+            deed = ("put", some_box(), source.randrange(many))
+        elif choice < 9 and many:
+            deed = ("fetch", source.randrange(many), some_box())
+        else:
+            deed = ("join", source.choice(deeds), some_box(), some_box(), some_box())
+        boxes, shelf = machine.after(deed, boxes, shelf)
+        row.append(deed)
+    return row
+
+
+def figures(row):
+    """How many takes, joins, puts and fetches a row has."""
+    sorts = [deed[0] for deed in row]
+    return tuple(sorts.count(sort) for sort in SORTS)
+
+
+# A deed of each sort on two boxes and two shelf places, and where in it numbers stand: of boxes, of shelf places.
+DEED_SLOTS = [
+    (("take", "aa", 1), (2,), ()),
+    (("take", "zzz", 0), (2,), ()),
+    (("join", "f", 0, 1, 0), (2, 3, 4), ()),
+    (("join", "zzz", 1, 1, 1), (2, 3, 4), ()),
+    (("put", 1, 0), (1,), (2,)),
+    (("fetch", 0, 1), (2,), (1,)),
+]
+
+
+def spoiled_deeds(k, many):
+    """Deeds with one number that is no box's of k or no shelf place's of many, the others being right."""
+    spoiled = []
+    for deed, box_slots, shelf_slots in DEED_SLOTS:
+        for slot in box_slots + shelf_slots:
+            there = k if slot in box_slots else many
+            for number in (-1, -2, -there, -there - 1, there, there + 1, 9999, -9999, BIG, -BIG):
+                if not 0 <= number < there:
+                    spoiled.append(deed[:slot] + (number,) + deed[slot + 1:])
+    return spoiled

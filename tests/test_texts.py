@@ -3,9 +3,8 @@ import unittest
 
 from fewboxes.errors import FewError, NoDeed, NoName, NoText, NotHeld, TooBig, TooFew, Twice
 from fewboxes.texts import read, show
-from helper import ALL_SIGNS, bushy, chain, is_formula_text, knot, leaf, numbered_name, shapes
+from helper import ALL_SIGNS, SIDES, bushy, chain, is_formula_text, knot, leaf, numbered_name, shapes
 
-SIDES = ("left", "right", "both")
 PAIRS = [
     ("a", leaf("a")),
     ("abcdefgh", leaf("abcdefgh")),

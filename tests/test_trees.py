@@ -1,12 +1,9 @@
 import copy
 import unittest
 
-from fewboxes.errors import FewError, NoDeed, NoName, NoText, NotHeld, TooBig, TooFew, Twice
+from fewboxes.errors import NoName, TooBig, Twice
 from fewboxes.trees import formula, is_name, leaves, part_at, place_of, places
-from helper import ALL_SIGNS, LETTERS, bushy, chain, knot, leaf, numbered_name, shapes
-
-KINDS = [NoName, Twice, TooBig, NoText, TooFew, NoDeed, NotHeld]
-SIDES = ("left", "right", "both")
+from helper import ALL_SIGNS, LETTERS, SIDES, assert_refused, bushy, chain, knot, leaf, numbered_name, shapes
 
 # f(g(a bb) h(c g(dog e)))
 SAMPLE = knot("f", knot("g", leaf("a"), leaf("bb")), knot("h", leaf("c"), knot("g", leaf("dog"), leaf("e"))))
@@ -103,13 +100,7 @@ class PlaceTest(unittest.TestCase):
 
 class FormulaTest(unittest.TestCase):
     def refused(self, kind, tree):
-        for wide in (kind, FewError, ValueError):
-            self.assertRaises(wide, formula, tree)
-        try:
-            formula(tree)
-        except FewError as error:
-            for other in KINDS:
-                self.assertEqual(isinstance(error, other), other == kind, (error, other))
+        assert_refused(self, kind, formula, tree)
 
     def test_given(self):
         for tree in (leaf("a"), leaf("abcdefgh"), SAMPLE):
