@@ -101,7 +101,8 @@ def order_of(place):
 def fewest(tree, k, many, sort):
     """How few deeds of a sort a row needs behind which a box holds the formula; None where there is no such row.
 
-    Every row is looked at, up to the numbering of boxes and of shelf places.
+    All rows on k boxes and so many shelf places are looked at, up to how boxes and shelf places are numbered,
+    but for those with deeds that are not worth trying.
     """
     machine = PlainMachine(tree)
     start = ((None,) * k, (None,) * many)
@@ -135,7 +136,7 @@ def deeds_worth_trying(machine, boxes, shelf):
 
 
 class FewestTest(unittest.TestCase):
-    """No row has fewer deeds of any sort than the told row: all rows are looked at."""
+    """No row on as many shelf places as the told row has, or on one, has fewer deeds of any sort: by search."""
 
     def check(self, tree, k):
         many = max(1, len(must_put(tree, k)))
