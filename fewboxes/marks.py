@@ -36,3 +36,7 @@ def moments(tree, k, many, row):
     for deed in row:
         states.append(marked(tree, deed, states[-1]))
     return states
+
+
+def formula_held(state):
+    return () in state[0]

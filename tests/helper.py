@@ -4,6 +4,7 @@ import random
 import re
 
 from fewboxes.errors import FewError, NoDeed, NoName, NoText, NotHeld, TooBig, TooFew, Twice
+from fewboxes.ranks import rank
 
 KINDS = [NoName, Twice, TooBig, NoText, TooFew, NoDeed, NotHeld]
 SIDES = ("left", "right", "both")
@@ -68,6 +69,17 @@ def is_formula_text(text):
     for level in range(23):
         left_over = re.sub(r"(?<![a-z])[a-z]{1,8}\(# #\)", "#", left_over)
     return left_over == "#"
+
+
+def one_sign_off(text, signs):
+    """The texts with one sign less, with one of these signs more, and with one of them in another's place."""
+    texts = []
+    for at in range(len(text) + 1):
+        texts.append(text[:at] + text[at + 1:])
+        for sign in signs:
+            texts.append(text[:at] + sign + text[at:])
+            texts.append(text[:at] + sign + text[at + 1:])
+    return texts
 
 
 def mixed(source, many, deep, first=0):
@@ -246,3 +258,118 @@ def spoiled_deeds(k, many):
                 if not 0 <= number < there:
                     spoiled.append(deed[:slot] + (number,) + deed[slot + 1:])
     return spoiled
+
+
+class DrawnRow:
+    """A drawn row behind which a box holds the formula, with as much of no use as waste tells, from 0 to 1.
+
+    Of no use are parts that are reckoned twice, puts and fetches without need, deeds that leave None or lose something.
+    Where clever is True, sons come in such an order that nothing but the waste is too much; else in any order.
+    Where thrifty is True, each put goes to the first shelf place that is free.
+    """
+
+    def __init__(self, source, tree, k, many, waste, clever, thrifty):
+        self.source = source
+        self.k = k
+        self.many = many
+        self.waste = waste
+        self.clever = clever
+        self.thrifty = thrifty
+        self.names = leaves_of(tree) + ["zzz"]
+        self.deeds = deeds_of(tree) + ["zzz"]
+        self.row = []
+        self.reckon(tree, list(range(k)), list(range(many)))
+
+    def wasteful(self):
+        # what is reckoned twice at every level would never end
+        return len(self.row) < 130 and self.source.random() < self.waste
+
+    def reckon(self, tree, boxes, shelf):
+        """Brings a tree into one of these boxes, which is told, by these boxes and shelf places alone."""
+        if self.wasteful():
+            self.row.append(self.useless_deed(boxes, shelf))
+        if self.wasteful():
+            self.reckon_once(tree, boxes, shelf)
+        box = self.reckon_once(tree, boxes, shelf)
+        if shelf and self.wasteful():
+            place = self.chosen_shelf_place(shelf)
+            self.row.append(("put", box, place))
+            self.row.append(self.useless_deed(boxes, [s for s in shelf if s != place]))
+            box = self.source.choice(boxes)
+            self.row.append(("fetch", place, box))
+        return box
+
+    def reckon_once(self, tree, boxes, shelf):
+        if tree[0] == "leaf":
+            box = self.source.choice(boxes)
+            self.row.append(("take", tree[1], box))
+            return box
+        first = self.first_son(tree)
+        second = tree[3 - first]
+        one = self.reckon(tree[2 + first], boxes, shelf)
+        left_over = [i for i in boxes if i != one]
+        wanted = rank(second) if self.clever else min(2, depth(second))
+        if len(left_over) >= wanted and not (shelf and self.wasteful()):
+            other = self.reckon(second, left_over, shelf)
+        else:
+            place = self.chosen_shelf_place(shelf)
+            self.row.append(("put", one, place))
+            other = self.reckon(second, boxes, [s for s in shelf if s != place])
+            one = self.source.choice([i for i in boxes if i != other])
+            self.row.append(("fetch", place, one))
+            if self.wasteful():
+                self.row.append(("fetch", place, one))
+        pair = (other, one) if first else (one, other)
+        into = self.source.choice(boxes)
+        self.row.append(("join", tree[1], *pair, into))
+        return into
+
+    def first_son(self, tree):
+        left, right = rank(tree[2]), rank(tree[3])
+        if self.clever and left != right:
+            return int(left < right)
+        return self.source.randrange(2)
+
+    def chosen_shelf_place(self, shelf):
+        return shelf[0] if self.thrifty else self.source.choice(shelf)
+
+    def useless_deed(self, boxes, shelf):
+        """It goes to one of these boxes or shelf places, wherever it comes from."""
+        source, into = self.source, self.source.choice(boxes)
+        deeds = [
+            ("take", source.choice(self.names), into),
+            ("join", source.choice(self.deeds), source.randrange(self.k), source.randrange(self.k), into),
+        ]
+        if self.many:
+            deeds.append(("fetch", source.randrange(self.many), into))
+        if shelf:
+            deeds.append(("put", source.randrange(self.k), self.chosen_shelf_place(shelf)))
+        return source.choice(deeds)
+
+
+def drawn_row(source, tree, k, many):
+    """A DrawnRow of at most two hundred deeds: the most waste of some that leaves it so short."""
+    clever, thrifty = source.random() < 0.5, source.random() < 0.5
+    for waste in (source.random() / 2, source.random() / 8, source.random() / 32, 0):
+        row = DrawnRow(source, tree, k, many, waste, clever, thrifty).row
+        if len(row) <= 200:
+            return row
+
+
+def pruned(source, tree, k, many, row):
+    """What is left of a row behind which the formula is held when no deed of it can be left out."""
+    machine = PlainMachine(tree)
+    for at in sorted(range(len(row)), key=lambda at: source.random()):
+        shorter = row[:at] + [None] + row[at + 1:]
+        if () in machine.moments(k, many, [deed for deed in shorter if deed])[-1][0]:
+            row = shorter
+    return [deed for deed in row if deed]
+
+
+NUMBER_TEXT = "(0|[1-9][0-9]{0,3})"
+DEED_TEXT = "(take NAME N|join NAME N N N|put N N|fetch N N)".replace("NAME", "[a-z]{1,8}").replace("N", NUMBER_TEXT)
+
+
+def is_row_text(text):
+    """The same question as read_row answers, asked another way."""
+    return text == "" or re.fullmatch(f"{DEED_TEXT}(; {DEED_TEXT})*", text) is not None

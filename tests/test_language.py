@@ -85,12 +85,24 @@ def node_rule(node, bound, methods):
         return "L5"
     if isinstance(node, ast.ImportFrom) and (node.level or not node.module.startswith("fewboxes.")):
         return "L2"
+    if isinstance(node, ast.Compare) and any(isinstance(sign, (ast.Is, ast.IsNot)) for sign in node.ops):
+        if not isinstance(node.comparators[-1], ast.Constant):
+            return "L20"
     if isinstance(node, ast.Name) and node.id not in bound and node.id not in OWN_NAMES:
         return "L8"
     if isinstance(node, ast.Call) and isinstance(node.func, ast.Attribute):
         if node.func.attr not in METHODS and node.func.attr not in methods:
             return "L25"
     return None
+
+
+def renamed(tree):
+    """Those imports and classes of a file that a parameter or a local of it is called like."""
+    taken = {alias.name for node in tree.body if isinstance(node, ast.ImportFrom) for alias in node.names}
+    taken |= {node.name for node in tree.body if isinstance(node, ast.ClassDef)}
+    own = [node.arg for node in ast.walk(tree) if isinstance(node, ast.arg)]
+    own += [node.id for node in ast.walk(tree) if isinstance(node, ast.Name) and isinstance(node.ctx, ast.Store)]
+    return sorted(taken & set(own))
 
 
 def faults_of(source):
@@ -105,12 +117,19 @@ def faults_of(source):
     for node in tree.body:
         if not isinstance(node, (ast.Expr, ast.ImportFrom, ast.FunctionDef, ast.ClassDef, ast.Assign)):
             faults.append(("L3", node.lineno))
+    faults.extend(("L15", name) for name in renamed(tree))
     for name in bound:
         if not re.fullmatch("[A-Za-z][A-Za-z0-9_]*", name) and not re.fullmatch("__[a-z]+__", name):
             faults.append(("L12", name))
         if name in OWN_NAMES:
             faults.append(("L15", name))
     return faults
+
+
+def drawn_from(path):
+    """The modules that a file draws from, each with the names that it draws."""
+    tree = ast.parse(path.read_text(encoding="utf-8"))
+    return {node.module: [alias.name for alias in node.names] for node in tree.body if isinstance(node, ast.ImportFrom)}
 
 
 class LanguageTest(unittest.TestCase):
@@ -124,6 +143,22 @@ class LanguageTest(unittest.TestCase):
         for path in sorted(FOLDER.glob("*.py")):
             with self.subTest(path.name):
                 self.assertEqual(faults_of(path.read_text(encoding="utf-8")), [])
+
+    def test_no_two_files_draw_from_one_another(self):
+        left = {f"fewboxes.{path.stem}": drawn_from(path) for path in FOLDER.glob("*.py")}
+        while left:
+            free = [name for name in left if not any(other in left for other in left[name])]
+            self.assertNotEqual(free, [], f"in a ring: {sorted(left)}")
+            for name in free:
+                left.pop(name)
+
+    def test_names_come_from_the_file_that_defines_them(self):
+        for path in sorted(FOLDER.glob("*.py")):
+            for module, names in drawn_from(path).items():
+                tree = ast.parse((FOLDER / f"{module.split('.')[1]}.py").read_text(encoding="utf-8"))
+                # but for what that file draws from others itself
+                own = [node for node in tree.body if not isinstance(node, ast.ImportFrom)]
+                self.assertLessEqual(set(names), bound_names(ast.Module(own, [])), (path.name, module))
 
     def test_faults_are_seen(self):
         for rule, source in (
@@ -141,7 +176,9 @@ class LanguageTest(unittest.TestCase):
             ("L12", "def f(x):\n    _y = x\n"),
             ("L14", "X = 1\t\n"),
             ("L15", "def f(max):\n    return 1\n"),
+            ("L15", "from fewboxes.trees import leaves\ndef f(leaves):\n    return 1\n"),
             ("L17", "# some type\n"),
+            ("L20", "def f(x, y):\n    return x is y\n"),
             ("L25", "def f(x):\n    return x.isnumeric()\n"),
         ):
             self.assertIn(rule, [fault[0] for fault in faults_of(source)], source)

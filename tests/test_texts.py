@@ -3,7 +3,7 @@ import unittest
 
 from fewboxes.errors import FewError, NoDeed, NoName, NoText, NotHeld, TooBig, TooFew, Twice
 from fewboxes.texts import read, show
-from helper import ALL_SIGNS, SIDES, bushy, chain, is_formula_text, knot, leaf, numbered_name, shapes
+from helper import ALL_SIGNS, SIDES, bushy, chain, is_formula_text, knot, leaf, numbered_name, one_sign_off, shapes
 
 PAIRS = [
     ("a", leaf("a")),
@@ -139,20 +139,13 @@ class ReadTest(unittest.TestCase):
 
     def test_one_sign_off(self):
         for text in ("abcdefgh", "f(g(a b) cc)", "ff(a g(b h(c ffffffff)))", "p(q(a b) r(c d))"):
-            for at in range(len(text) + 1):
-                self.judge(text[:at] + text[at + 1:])
-                for sign in ALL_SIGNS:
-                    self.judge(text[:at] + sign + text[at:])
-                    self.judge(text[:at] + sign + text[at + 1:])
+            for spoiled in one_sign_off(text, ALL_SIGNS):
+                self.judge(spoiled)
 
     def test_one_sign_off_at_the_bounds(self):
         for tree in [bushy(32), bushy(33)] + [chain(deep, side) for deep in (24, 25) for side in SIDES]:
-            text = show(tree)
-            for at in range(len(text) + 1):
-                self.judge(text[:at] + text[at + 1:])
-                for sign in "az( )":
-                    self.judge(text[:at] + sign + text[at:])
-                    self.judge(text[:at] + sign + text[at + 1:])
+            for spoiled in one_sign_off(show(tree), "az( )"):
+                self.judge(spoiled)
 
     def judge(self, text):
         if is_formula_text(text):
